@@ -1,0 +1,182 @@
+"""The code of the package keeps to ../shared/LANGUAGE.md, as far as can be seen from its text."""
+
+import ast
+import builtins
+import pathlib
+import re
+import unittest
+
+PACKAGE = pathlib.Path(__file__).resolve().parent.parent / "tonguenest"
+
+STATEMENTS = (
+    ast.Module, ast.FunctionDef, ast.ClassDef, ast.ImportFrom, ast.Assign, ast.AugAssign, ast.If, ast.While, ast.For,
+    ast.Return, ast.Break, ast.Continue, ast.Pass, ast.Raise, ast.Assert, ast.Delete, ast.Try, ast.Expr,
+)
+EXPRESSIONS = (
+    ast.BinOp, ast.UnaryOp, ast.BoolOp, ast.Compare, ast.IfExp, ast.Call, ast.Attribute, ast.Subscript, ast.Slice,
+    ast.Name, ast.Constant, ast.List, ast.Tuple, ast.Dict, ast.Set, ast.ListComp, ast.DictComp, ast.SetComp,
+    ast.Lambda, ast.JoinedStr, ast.FormattedValue, ast.Starred,
+)
+# The rest of what Python's own reading of a file is made of.
+OTHERS = (
+    ast.expr_context, ast.operator, ast.unaryop, ast.boolop, ast.cmpop, ast.comprehension, ast.arguments, ast.arg,
+    ast.keyword, ast.alias, ast.ExceptHandler,
+)
+BUILTINS = set(
+    "len range enumerate zip min max sum abs sorted reversed int str bool bytes list tuple dict set frozenset "
+    "isinstance ord repr any all divmod Exception ValueError TypeError KeyError IndexError LookupError "
+    "ZeroDivisionError ArithmeticError OverflowError RuntimeError NotImplementedError AttributeError "
+    "StopIteration".split()
+)
+METHODS = set(
+    "append clear copy count endswith extend find get index insert isalnum isalpha isdigit islower isspace isupper "
+    "items join keys ljust lower lstrip partition pop remove replace reverse rfind rjust rpartition rsplit rstrip "
+    "setdefault split splitlines startswith strip update upper values zfill bit_length add discard sort".split()
+)
+DOUBLE = ("__init__", "__eq__", "__repr__", "__str__", "__len__")
+BARRED_NAMES = set(
+    "register mro elements open input version_info with_traceback add_note attrgetter breakpoint builtins compile "
+    "copyright credits delattr dir eval exec exit gc getattr globals hasattr help id importlib license locals "
+    "methodcaller os quit setattr super type vars sys".split()
+)
+BARRED_WORDS = re.compile(
+    r"\b(type|typing|typing_extensions|enum|Enum|IntEnum|StrEnum|Flag|IntFlag|Generic|Protocol|ABC|ABCMeta|namedtuple"
+    r"|NamedTuple|TypedDict|TYPE_CHECKING|abstractmethod)\b|dataclass|overload|contextmanager"
+)
+
+
+def bound_names(tree):
+    """The names that a file gives to something, with the lines of them."""
+    for node in ast.walk(tree):
+        if isinstance(node, (ast.FunctionDef, ast.ClassDef)):
+            yield node.name, node.lineno
+        elif isinstance(node, ast.arg):
+            yield node.arg, node.lineno
+        elif isinstance(node, ast.alias):
+            yield node.asname or node.name, node.lineno
+        elif isinstance(node, ast.ExceptHandler) and node.name:
+            yield node.name, node.lineno
+        elif isinstance(node, ast.Name) and not isinstance(node.ctx, ast.Load):
+            yield node.id, node.lineno
+        elif isinstance(node, ast.Attribute):
+            yield node.attr, node.lineno
+
+
+def is_docstring(node):
+    return isinstance(node, ast.Expr) and isinstance(node.value, ast.Constant) and isinstance(node.value.value, str)
+
+
+class LanguageTest(unittest.TestCase):
+    def setUp(self):
+        self.files = sorted(PACKAGE.glob("*.py"))
+        self.texts = {path.name: path.read_text(encoding="utf-8") for path in self.files}
+        self.trees = {name: ast.parse(text) for name, text in self.texts.items()}
+
+    def nodes(self, *kinds):
+        for name, tree in self.trees.items():
+            for node in ast.walk(tree):
+                if isinstance(node, kinds):
+                    yield f"{name}:{getattr(node, 'lineno', 0)}", node
+
+    def test_the_folder_holds_files_of_plain_names_alone(self):
+        found = [path for path in PACKAGE.iterdir() if path.name != "__pycache__"]
+        self.assertEqual(sorted(found), self.files)
+        self.assertIn("__init__.py", self.texts)
+        for name in self.texts:
+            self.assertRegex(name, r"^(__init__|[a-z][a-z0-9_]*)\.py$")
+
+    def test_sizes_and_characters(self):
+        for name, text in self.texts.items():
+            lines = text.split("\n")
+            self.assertLessEqual(len(lines), 400, name)
+            for number, line in enumerate(lines, 1):
+                self.assertLessEqual(len(line), 120, f"{name}:{number}")
+                self.assertTrue(all(" " <= sign <= "~" for sign in line), f"{name}:{number}")
+                self.assertIsNone(BARRED_WORDS.search(line), f"{name}:{number}")
+        for where, node in self.nodes(ast.FunctionDef):
+            self.assertLessEqual(node.end_lineno - node.lineno + 1, 40, where)
+
+    def test_statements_and_expressions(self):
+        for where, node in self.nodes(ast.AST):
+            self.assertIsInstance(node, STATEMENTS + EXPRESSIONS + OTHERS, where)
+            self.assertNotIsInstance(node, (ast.Div, ast.MatMult), where)
+        for where, node in self.nodes(ast.For, ast.While):
+            self.assertEqual(node.orelse, [], where)
+        for where, node in self.nodes(ast.comprehension):
+            self.assertFalse(node.is_async, where)
+        for where, node in self.nodes(ast.Expr):
+            self.assertTrue(is_docstring(node) or isinstance(node.value, ast.Call), where)
+
+    def test_module_level(self):
+        for name, tree in self.trees.items():
+            bound = []
+            for at, node in enumerate(tree.body):
+                where = f"{name}:{node.lineno}"
+                if at == 0:
+                    self.assertTrue(is_docstring(node), where)
+                else:
+                    self.assertIsInstance(node, (ast.ImportFrom, ast.FunctionDef, ast.ClassDef, ast.Assign), where)
+                if isinstance(node, ast.Assign):
+                    ast.literal_eval(node.value)
+                    bound.extend(target.id for target in node.targets)
+                elif isinstance(node, (ast.FunctionDef, ast.ClassDef)):
+                    bound.append(node.name)
+                elif isinstance(node, ast.ImportFrom):
+                    bound.extend(alias.asname or alias.name for alias in node.names)
+            self.assertEqual(len(bound), len(set(bound)), name)
+
+    def test_imports(self):
+        for where, node in self.nodes(ast.ImportFrom):
+            self.assertEqual(node.level, 0, where)
+            self.assertRegex(node.module, r"^tonguenest\.[a-z][a-z0-9_]*$", where)
+            self.assertIn(node.module.split(".")[1] + ".py", self.texts, where)
+            self.assertNotIn("*", [alias.name for alias in node.names], where)
+
+    def test_functions_and_classes(self):
+        for where, node in self.nodes(ast.arguments):
+            self.assertEqual((node.vararg, node.kwarg, node.posonlyargs), (None, None, []), where)
+        for where, node in self.nodes(ast.FunctionDef, ast.ClassDef):
+            self.assertEqual(node.decorator_list, [], where)
+        for where, node in self.nodes(ast.ClassDef):
+            self.assertLessEqual(len(node.bases), 1, where)
+            self.assertEqual(node.keywords, [], where)
+            for part in node.body:
+                self.assertTrue(is_docstring(part) or isinstance(part, ast.FunctionDef), where)
+
+    def test_names(self):
+        for name, tree in self.trees.items():
+            for bound, line in bound_names(tree):
+                where = f"{name}:{line} {bound}"
+                self.assertTrue(bound in DOUBLE or re.fullmatch(r"[A-Za-z][A-Za-z0-9_]*", bound), where)
+                self.assertNotIn(bound, BARRED_NAMES, where)
+        for where, node in self.nodes(ast.Name):
+            if hasattr(builtins, node.id):
+                self.assertIn(node.id, BUILTINS, where)
+                self.assertIsInstance(node.ctx, ast.Load, where)
+        for where, node in self.nodes(ast.arg):
+            self.assertFalse(hasattr(builtins, node.arg), where)
+
+    def test_methods(self):
+        own = {node.name for where, node in self.nodes(ast.FunctionDef)}
+        for where, node in self.nodes(ast.Call):
+            if isinstance(node.func, ast.Attribute):
+                self.assertIn(node.func.attr, METHODS | own | {"__init__"}, where)
+
+    def test_constants(self):
+        for where, node in self.nodes(ast.Constant):
+            self.assertIsInstance(node.value, (int, str, bytes, bool, None.__class__), where)
+            if isinstance(node.value, str):
+                self.assertNotIn("%", node.value, where)
+        for name, text in self.texts.items():
+            self.assertIsNone(re.search(r"\\[^nt\\\"']", text.replace("\\\\", "")), name)
+
+    def test_is_stands_with_none_and_truths_alone(self):
+        for where, node in self.nodes(ast.Compare):
+            for sign, right in zip(node.ops, node.comparators):
+                if isinstance(sign, (ast.Is, ast.IsNot)):
+                    self.assertIsInstance(right, ast.Constant, where)
+                    self.assertIn(right.value, (None, True, False), where)
+
+
+if __name__ == "__main__":
+    unittest.main()

@@ -1,0 +1,1 @@
+"""Tonguenest: texts in which one tongue stands within another."""
