@@ -45,6 +45,28 @@ BARRED_WORDS = re.compile(
 )
 
 
+# What strings, numbers, lists, dicts, sets and bytes have; an own method may still be called like these of METHODS.
+BUILTIN_ATTRIBUTES = {name for kind in (str, int, list, tuple, dict, set, bytes) for name in dir(kind)}
+ATTRIBUTES_ALLOWED = set("count index title find get join lower upper split strip copy add".split())
+# What these give is gone through where it stands.
+ITERATED = ("zip", "enumerate", "reversed", "range", "items", "keys", "values")
+ITERATING = ("list", "tuple", "dict", "sorted", "sum", "any", "all", "enumerate", "zip", "bytes", "min", "max", "join")
+
+
+def called_name(node):
+    """The name of what a call calls, or None."""
+    if not isinstance(node, ast.Call):
+        return None
+    return getattr(node.func, "id", getattr(node.func, "attr", None))
+
+
+def methods_of(tree):
+    return {
+        part.name for node in tree.body if isinstance(node, ast.ClassDef)
+        for part in node.body if isinstance(part, ast.FunctionDef)
+    }
+
+
 def bound_names(tree):
     """The names that a file gives to something, with the lines of them."""
     for node in ast.walk(tree):
@@ -155,6 +177,70 @@ class LanguageTest(unittest.TestCase):
                 self.assertIsInstance(node.ctx, ast.Load, where)
         for where, node in self.nodes(ast.arg):
             self.assertFalse(hasattr(builtins, node.arg), where)
+
+    def test_no_local_name_is_that_of_an_import_or_a_class_of_its_file(self):
+        for name, tree in self.trees.items():
+            taken = {alias.asname or alias.name for node in tree.body if isinstance(node, ast.ImportFrom)
+                     for alias in node.names}
+            taken |= {node.name for node in tree.body if isinstance(node, ast.ClassDef)}
+            for node in ast.walk(tree):
+                if isinstance(node, ast.Name) and isinstance(node.ctx, ast.Store):
+                    self.assertNotIn(node.id, taken, f"{name}:{node.lineno}")
+                if isinstance(node, ast.arg):
+                    self.assertNotIn(node.arg, taken, f"{name}:{node.lineno}")
+
+    def test_imports_name_the_file_that_defines_the_name_and_lead_in_no_circle(self):
+        needs = {name: set() for name in self.trees}
+        for name, tree in self.trees.items():
+            for node in tree.body:
+                if isinstance(node, ast.ImportFrom):
+                    source = node.module.split(".")[1] + ".py"
+                    needs[name].add(source)
+                    defined = {part.name for part in self.trees[source].body
+                               if isinstance(part, (ast.FunctionDef, ast.ClassDef))}
+                    defined |= {target.id for part in self.trees[source].body if isinstance(part, ast.Assign)
+                                for target in part.targets}
+                    for alias in node.names:
+                        self.assertIn(alias.name, defined, f"{name}:{node.lineno}")
+        while needs:
+            free = [name for name, sources in needs.items() if not sources & set(needs)]
+            self.assertNotEqual(free, [], needs)
+            for name in free:
+                del needs[name]
+
+    def test_own_methods_and_attributes(self):
+        methods = set().union(*[methods_of(tree) for tree in self.trees.values()])
+        called = {id(node.func) for where, node in self.nodes(ast.Call)}
+        read = [(where, node) for where, node in self.nodes(ast.Attribute) if id(node) not in called]
+        attributes = {node.attr for where, node in read if isinstance(node.ctx, ast.Store)}
+        self.assertEqual(methods & attributes, set())
+        self.assertEqual((methods - set(DOUBLE)) & (BUILTIN_ATTRIBUTES - METHODS), set())
+        self.assertEqual(attributes & (BUILTIN_ATTRIBUTES - ATTRIBUTES_ALLOWED), set())
+        for where, node in read:
+            self.assertIn(node.attr, attributes, where)
+
+    def test_own_functions_are_called_with_what_they_take(self):
+        taken = {}
+        for name, tree in self.trees.items():
+            for node in tree.body:
+                if isinstance(node, ast.FunctionDef):
+                    taken[node.name] = len(node.args.args)
+        for where, node in self.nodes(ast.Call):
+            if isinstance(node.func, ast.Name) and node.func.id in taken:
+                self.assertEqual(len(node.args) + len(node.keywords), taken[node.func.id], where)
+
+    def test_what_is_to_be_gone_through_at_once_is(self):
+        allowed = set()
+        for where, node in self.nodes(ast.For, ast.comprehension):
+            allowed.add(id(node.iter))
+        for where, node in self.nodes(ast.Call):
+            if called_name(node) in ITERATING:
+                allowed.update(id(part) for part in node.args)
+            if called_name(node) == "reversed" and called_name(node.args[0]) == "range":
+                allowed.add(id(node.args[0]))
+        for where, node in self.nodes(ast.Call):
+            if called_name(node) in ITERATED:
+                self.assertIn(id(node), allowed, where)
 
     def test_methods(self):
         own = {node.name for where, node in self.nodes(ast.FunctionDef)}

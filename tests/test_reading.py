@@ -1,110 +1,19 @@
 """[5] to [8], and what [2] and [3] say of reading."""
 
 import copy
-import itertools
 import unittest
 
+from tests.samples import (
+    AGAINST, BARE, BOOKS, BRACKETS, ESCAPED, ESCAPES, LENGTHS, LINES, SIGNS, WORDS, all_short_texts, long_text,
+    told_by_rules,
+)
 from tonguenest.books import is_book
 from tonguenest.reading import standing, steps, tongues, unfinished
-
-# No escape and no door.
-BARE = (("", ()),)
-# An escape and no door.
-ESCAPED = (("\\", ()),)
-# Words in quotes with gaps that lead back out, and remarks that nest.
-WORDS = (
-    ("", (('"', 1, '"'), ("(*", 2, "*)"), ("{", 0, "}"))),
-    ("\\", (("${", 0, "}"),)),
-    ("", (("(*", 2, "*)"),)),
-)
-# Brackets that lead back to their own tongue.
-BRACKETS = (("\\", (("<", 0, ">"),)),)
-# Opens that begin with one another, each to a tongue of its own.
-LENGTHS = (
-    ("", (("a", 1, "z"), ("aaaa", 4, "z"), ("aa", 2, "z"), ("aaa", 3, "z"))),
-    ("", ()),
-    ("", ()),
-    ("", ()),
-    ("", ()),
-)
-# In tongue 1 the close `>>` is longer than the open `>`, and shorter than the open `>-->`.
-AGAINST = (
-    ("", (("<", 1, ">>"), ("[", 2, "]"))),
-    ("", ((">", 2, "]"), ("-", 2, "]"), (">-->", 2, "]"))),
-    ("^", (("<", 1, "x"),)),
-)
-# Remarks that end with their line, and marks of several signs.
-LINES = (("\\", (("--", 1, "\n"), ("<!--", 2, "-->"))), ("^", ()), ("", (("\n", 0, "\n."),)))
-# Each tongue has its own escape; a tongue's escape is a plain sign to the others.
-ESCAPES = (("0", (("(", 1, ")"),)), ("1", (("(", 2, ")"),)), ("", (("(", 0, ")"),)))
-
-BOOKS = (BARE, ESCAPED, WORDS, BRACKETS, LENGTHS, AGAINST, LINES, ESCAPES)
-
-# Each with the signs of which texts are made for it.
-SIGNS = (
-    (BARE, "a\\\n"),
-    (ESCAPED, "a\\ "),
-    (WORDS, '"(*)$\\'),
-    (WORDS, '"${}\\a'),
-    (BRACKETS, "<>\\a"),
-    (LENGTHS, "az"),
-    (AGAINST, "<>-]"),
-    (AGAINST, "[]<x^"),
-    (LINES, "-\n.\\"),
-    (LINES, "<!->\n"),
-    (ESCAPES, "(01)"),
-)
-
-
-def short_texts(signs, most):
-    for many in range(most + 1):
-        for text in itertools.product(signs, repeat=many):
-            yield "".join(text)
-
-
-def all_short_texts():
-    for book, signs in SIGNS:
-        for text in short_texts(signs, 5):
-            yield book, text
 
 
 def words_of(book, text):
     """The steps of a text as (its signs, word)."""
     return [(text[place:place + many], word) for place, many, word, tongue, depth in steps(book, text)]
-
-
-def told_by_rules(book, text):
-    """A second reading by [5], [6] and [8], written apart from the program: (steps, unfinished)."""
-    told, doors, rest = [], (), text
-    while rest:
-        tongue = doors[-1][1] if doors else 0
-        here = (tongue, len(doors))
-        place = len(text) - len(rest)
-        escape = book[tongue][0]
-        marks = {opening: (inner, close) for opening, inner, close in book[tongue][1]}
-        if doors:
-            assert doors[-1][2] not in marks
-            marks[doors[-1][2]] = None
-        lengths = [many for many in (4, 3, 2, 1) if len(rest) >= many and rest[:many] in marks]
-        if escape and rest.startswith(escape):
-            many, word = (2, "escape") if len(rest) > 1 else (1, "cut")
-        elif not lengths:
-            many, word = 1, "sign"
-        else:
-            many = lengths[0]
-            door = marks[rest[:many]]
-            word = "close" if door is None else "open"
-            if door is None:
-                doors = doors[:-1]
-                here = (doors[-1][1] if doors else 0, len(doors))
-            else:
-                doors = doors + ((place,) + door,)
-        told.append((place, many, word) + here)
-        rest = rest[many:]
-    ends = list(doors)
-    if told and told[-1][2] == "cut":
-        ends.append((told[-1][0], told[-1][3], ""))
-    return told, ends
 
 
 class BooksTest(unittest.TestCase):
@@ -260,7 +169,7 @@ class LongTextsTest(unittest.TestCase):
 
     def test_2000_signs_by_the_rules(self):
         for book, signs in SIGNS:
-            text = ("".join(short_texts(signs, 4)) * 2000)[:2000]
+            text = long_text(signs, 2000)
             self.assertEqual(len(text), 2000)
             told, ends = told_by_rules(book, text)
             self.assertEqual(steps(book, text), told)
