@@ -1,7 +1,12 @@
 """Books and texts for the tests, and what is told of them by rules that are written apart from the program."""
 
+import faulthandler
 import functools
 import itertools
+import sys
+import unittest
+
+from tonguenest.books import is_book
 
 # No escape and no door.
 BARE = (("", ()),)
@@ -60,6 +65,24 @@ SIGNS = (
 )
 
 
+def nested(kind, levels):
+    """So many lists, or tuples, within one another."""
+    thing = kind()
+    for level in range(levels - 1):
+        thing = kind([thing])
+    return thing
+
+
+# Things of all kinds that [2] names where it says "of anything".
+NUMBERS = [0, 1, 5, 6, -1, 10 ** 40 - 1, 1 - 10 ** 40]
+TRUTHS = [True, False, None]
+LISTS = [[], [[]], nested(list, 8), [("", ())], ["", ()], ["<", 0, ">"], [0] * 100, ["text"], ["escape none"]]
+TUPLES = [(), ((),), nested(tuple, 8), ("",), ("", (), ()), ((), ""), ("<", 0), ("<", 0, ">", 0), (0, "<", ">"),
+          (None, None), (True,), ("", [()]), (0, 1, 2), tuple(nested(list, 7) for many in range(6)), ("text",),
+          ("escape none",)]
+NO_TEXTS = NUMBERS + TRUTHS + LISTS + TUPLES
+
+
 def short_texts(signs, most):
     for many in range(most + 1):
         for text in itertools.product(signs, repeat=many):
@@ -81,7 +104,13 @@ def told_by_rules(book, text):
 @functools.lru_cache(maxsize=None)
 def kept_by_rules(book, text):
     """The same, as tuples."""
-    told, doors, rest = [], (), text
+    told, ends = read_by_rules(book, text, ())
+    return tuple(told), tuple(ends)
+
+
+def read_by_rules(book, text, doors):
+    """The same, read where these doors are open, each (place, inner, close), from the outermost one on."""
+    told, rest = [], text
     while rest:
         tongue = doors[-1][1] if doors else 0
         here = (tongue, len(doors))
@@ -110,17 +139,20 @@ def kept_by_rules(book, text):
     ends = list(doors)
     if told and told[-1][2] == "cut":
         ends.append((told[-1][0], told[-1][3], ""))
-    return tuple(told), tuple(ends)
+    return told, ends
 
 
 def standing_by_rules(book, text):
     return tuple([(inner, close) for place, inner, close in told_by_rules(book, text)[1] if close])
 
 
+def marks_in(book):
+    return [mark for escape, doors in book for opening, inner, close in doors for mark in (opening, close)]
+
+
 def tails_of(book):
     """All that goes on with a part of a mark of the book, and a sign that no mark has."""
-    marks = [mark for escape, doors in book for opening, inner, close in doors for mark in (opening, close)]
-    return ["~"] + [mark[many:] for mark in marks for many in range(1, len(mark))]
+    return ["~"] + [mark[many:] for mark in marks_in(book) for many in range(1, len(mark))]
 
 
 @functools.lru_cache(maxsize=None)
@@ -141,3 +173,44 @@ def end_of(told):
 def long_text(signs, many):
     """A text of so many of these signs, in which all short stretches of them come."""
     return ("".join(short_texts(signs, 4)) * many)[:many]
+
+
+def random_mark(chance, signs):
+    return "".join(chance.choice(signs) for sign in range(chance.choice((1, 1, 2, 2, 3, 4))))
+
+
+def random_book(chance, signs):
+    """A book of few tongues with marks of these signs."""
+    while True:
+        many = chance.randint(1, 3)
+        book = tuple(
+            (chance.choice(("", "^", "^", "@")), tuple(
+                (random_mark(chance, signs), chance.randrange(many), random_mark(chance, signs))
+                for door in range(chance.randint(0, 3))
+            ))
+            for tongue in range(many)
+        )
+        if is_book(book):
+            return book
+
+
+def doors_of(book):
+    """All doors of the book, each as (tongue, number)."""
+    return [(tongue, number) for tongue, (escape, doors) in enumerate(book) for number in range(len(doors))]
+
+
+class CheckedCase(unittest.TestCase):
+    """Checks that are the same for several kinds of tests."""
+
+    def refused(self, kind, asked, *values):
+        """Checks that what is asked is refused with just this kind of error."""
+        with self.assertRaises(kind) as caught:
+            asked(*values)
+        self.assertIs(type(caught.exception), kind)
+
+
+class TimedCase(CheckedCase):
+    def setUp(self):
+        # Going through all choices of a long text would not end: better a failure.
+        faulthandler.dump_traceback_later(300, exit=True, file=sys.__stderr__)
+        self.addCleanup(faulthandler.cancel_dump_traceback_later)

@@ -3,33 +3,13 @@
 import copy
 import unittest
 
+from tests.samples import LISTS, NO_TEXTS, NUMBERS, TRUTHS, TUPLES, WORDS
 from tonguenest.books import is_book
 
 SIGNS = [chr(code) for code in range(33, 127) if chr(code) != "%"]
 
-# Words in quotes with gaps that lead back out, and remarks that nest.
-WORDS = (
-    ("", (('"', 1, '"'), ("(*", 2, "*)"), ("{", 0, "}"))),
-    ("\\", (("${", 0, "}"),)),
-    ("", (("(*", 2, "*)"),)),
-)
-
-
-def nested(kind, levels):
-    """So many lists, or tuples, within one another."""
-    thing = kind()
-    for level in range(levels - 1):
-        thing = kind([thing])
-    return thing
-
-
-NUMBERS = [0, 1, 5, 6, -1, 10 ** 40 - 1, 1 - 10 ** 40]
 TEXTS = ["", " ", "a", "ab", "abcde", "\n", "%", "a" * 2000, "".join(SIGNS), "0", "()"]
-TRUTHS = [True, False, None]
-LISTS = [[], [[]], nested(list, 8), [("", ())], ["", ()], ["<", 0, ">"], [0] * 100]
-TUPLES = [(), ((),), nested(tuple, 8), ("",), ("", (), ()), ((), ""), ("<", 0), ("<", 0, ">", 0), (0, "<", ">"),
-          (None, None), (True,), ("", [()]), (0, 1, 2), tuple(nested(list, 7) for many in range(6))]
-THINGS = NUMBERS + TEXTS + TRUTHS + LISTS + TUPLES
+THINGS = NO_TEXTS + TEXTS
 
 
 def parts(thing, path=()):

@@ -1,15 +1,13 @@
 """[14], and what [2] and [3] say of forks and free readings."""
 
 import copy
-import faulthandler
 import functools
 import random
-import sys
 import unittest
 
 from tests.samples import (
-    AGAINST, BARE, BOOKS, BRACKETS, ESCAPED, ESCAPES, FORKED, LENGTHS, LINES, SIGNS, WORDS, all_short_texts, long_text,
-    short_texts, told_by_rules,
+    AGAINST, BARE, BOOKS, BRACKETS, ESCAPED, ESCAPES, FORKED, LENGTHS, LINES, SIGNS, WORDS, TimedCase, all_short_texts,
+    long_text, short_texts, told_by_rules,
 )
 from tonguenest.books import is_book
 from tonguenest.forks import forks, free_readings
@@ -139,12 +137,7 @@ class ForksTest(unittest.TestCase):
         self.assertEqual(forks(BRACKETS, "<" * 1000 + ">" * 1000), [])
 
 
-class FreeCheck(unittest.TestCase):
-    def setUp(self):
-        # Going through all choices of a long text would not end: better a failure.
-        faulthandler.dump_traceback_later(300, exit=True, file=sys.__stderr__)
-        self.addCleanup(faulthandler.cancel_dump_traceback_later)
-
+class FreeCheck(TimedCase):
     def check_whole(self, book, text, told):
         """Checks that these steps are a whole free reading."""
         self.assertIsInstance(told, list)

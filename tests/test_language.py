@@ -132,20 +132,53 @@ class LanguageTest(unittest.TestCase):
     def test_module_level(self):
         for name, tree in self.trees.items():
             bound = []
+            functions = set()
             for at, node in enumerate(tree.body):
+                functions.update([node.name] if isinstance(node, ast.FunctionDef) else [])
                 where = f"{name}:{node.lineno}"
                 if at == 0:
                     self.assertTrue(is_docstring(node), where)
                 else:
                     self.assertIsInstance(node, (ast.ImportFrom, ast.FunctionDef, ast.ClassDef, ast.Assign), where)
                 if isinstance(node, ast.Assign):
-                    ast.literal_eval(node.value)
+                    self.check_plain(node.value, functions, where)
                     bound.extend(target.id for target in node.targets)
                 elif isinstance(node, (ast.FunctionDef, ast.ClassDef)):
                     bound.append(node.name)
                 elif isinstance(node, ast.ImportFrom):
                     bound.extend(alias.asname or alias.name for alias in node.names)
             self.assertEqual(len(bound), len(set(bound)), name)
+
+    def check_plain(self, value, functions, where):
+        """Checks that a value is written out, but for the functions that are defined above it."""
+        for node in ast.walk(value):
+            if isinstance(node, (ast.List, ast.Dict)):
+                self.assertIs(node, value, where)
+            if isinstance(node, ast.Name):
+                self.assertIn(node.id, functions, where)
+            elif isinstance(node, ast.expr):
+                self.assertIsInstance(node, (ast.Constant, ast.List, ast.Tuple, ast.Dict, ast.UnaryOp), where)
+
+    def test_tables_are_only_read(self):
+        for name, tree in self.trees.items():
+            tables = {target.id for node in tree.body if isinstance(node, ast.Assign)
+                      and isinstance(node.value, (ast.List, ast.Dict)) for target in node.targets}
+            read = set()
+            for node in ast.walk(tree):
+                if isinstance(node, ast.Subscript) and isinstance(node.ctx, ast.Load):
+                    read.add(id(node.value))
+                elif isinstance(node, ast.Attribute) and node.attr == "get":
+                    read.add(id(node.value))
+                elif isinstance(node, ast.Compare):
+                    read.update(id(part) for part in node.comparators)
+                elif isinstance(node, (ast.For, ast.comprehension)):
+                    read.add(id(node.iter))
+            for node in ast.walk(tree):
+                if isinstance(node, ast.Name) and node.id in tables and isinstance(node.ctx, ast.Load):
+                    self.assertIn(id(node), read, f"{name}:{node.lineno}")
+            for node in ast.walk(tree):
+                if isinstance(node, ast.Call):
+                    self.assertIsInstance(node.func, (ast.Name, ast.Attribute), f"{name}:{node.lineno}")
 
     def test_imports(self):
         for where, node in self.nodes(ast.ImportFrom):
